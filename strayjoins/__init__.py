@@ -1,0 +1,1 @@
+"""Strayjoins: what the answers of a board tell about its wires."""
