@@ -76,7 +76,7 @@ def words_made(makers):
     made = {}
     for index, names in makers.items():
         for name in names:
-            made[name] = made.get(name, 0) | 1 << index
+            made[name] = made.get(name, 0) | (1 << index)
     return made
 
 

@@ -26,7 +26,8 @@ class Word:
 
     @classmethod
     def lone(cls, frame, name, level=0):
-        if not is_driver(frame, name) or not is_between(level, 0, frame.top):
+        # Any value may be passed as the name, also one that cannot be a key.
+        if not is_driver(frame, name):
             raise InvalidWord(name)
         return cls.of(frame, {name: level})
 
