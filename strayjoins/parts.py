@@ -54,10 +54,26 @@ def class_parts(block, makers, firsts):
     added = completed(begun_sides(makers, firsts))
     if added is None:
         return None
-    parts = [[first, *names] for first, names in zip(firsts, added)]
+    return with_others(block, [[first, *names] for first, names in zip(firsts, added)])
+
+
+def most_parts(block, makers):
+    """Covers that part a class, as many as can be."""
+    if has_single_maker(makers):
+        return [block]
+    sides = begun_sides(makers, ())
+    words = sum([1 << index for index in makers])
+    layers = [{sides.counts: None}]
+    while layers[-1]:
+        layers.append(next_layer(layers[-1], sides.kinds, words))
+    return with_others(block, taken_names(layers[:-1], sides.kinds))
+
+
+def with_others(block, parts):
+    """These parts of a class, the other elements of the class in the first one."""
     placed = [name for part in parts for name in part]
     others = [name for name in block if name not in placed]
-    return [parts[0] + others, *parts[1:]]
+    return [[*parts[0], *others], *parts[1:]]
 
 
 def completed(sides):
@@ -69,14 +85,17 @@ def completed(sides):
     layers = [{sides.counts: None}]
     for lack in sides.lacks:
         layers.append(next_layer(layers[-1], sides.kinds, lack))
-    if not layers[-1]:
-        return None
+    return taken_names(layers, sides.kinds) if layers[-1] else None
+
+
+def taken_names(layers, kinds):
+    """The makers that the sides take on some way through these layers, side by side."""
     left = list(layers[-1])[0]
     chosen = []
     for layer in layers[:0:-1]:
         left, taken = layer[left]
         chosen.append(taken)
-    unused = [list(names) for _, names in sides.kinds]
+    unused = [list(names) for _, names in kinds]
     return [[unused[at].pop() for at in taken] for taken in chosen[::-1]]
 
 

@@ -76,19 +76,31 @@ class Readings:
 
     def is_cover(self, names):
         """Whether any value names a cover of a class that is not idle."""
-        if not isinstance(names, (list, tuple)) or len(names) == 0:
+        block = class_of_all(self, names)
+        if block == ():
             return False
-        if not all([is_member(self._table.frame, name) for name in names]):
-            return False
-        block = self._homes[names[0]]
-        if block == self._idle or len(set(names)) < len(names):
-            return False
-        covers = [any([name in makers for name in names]) for makers in self._makers[block].values()]
-        return all([name in block for name in names]) and all(covers)
+        return all([any([name in makers for name in names]) for makers in self._makers[block].values()])
 
     def fits(self, board):
         """Whether a board of the frame gives these answers."""
         return self._table.answers_of(board) == self._answers
+
+
+def class_of_all(readings, names):
+    """The class that is not idle and holds all of these different names, any value; () if there is none."""
+    if not isinstance(names, (list, tuple)) or len(names) == 0:
+        return ()
+    if not all([is_member(readings.table.frame, name) for name in names]):
+        return ()
+    block = readings.class_of(names[0])
+    if block == readings.idle or len(set(names)) < len(names):
+        return ()
+    return block if all([name in block for name in names]) else ()
+
+
+def class_makers(readings, block):
+    """The makers of each marked word of a class."""
+    return {index: readings.makers(block[0], index) for index in readings.marked(block[0])}
 
 
 def checked_answers(table, answers):

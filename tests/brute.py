@@ -3,6 +3,7 @@
 Boards are plain here: tuples of blocks, each a tuple of names. Levels are dicts by driver.
 """
 
+import itertools
 import random
 
 from strayjoins.frames import Frame
@@ -60,6 +61,15 @@ def joins(blocks, one, other):
     return any(one in block and other in block for block in blocks)
 
 
+def all_rows(frame):
+    """The levels of all words of a frame."""
+    return [dict(zip(frame.drivers, levels)) for levels in itertools.product(range(frame.top + 1), repeat=len(frame.drivers))]
+
+
+def levels_of(word):
+    return {name: word[name] for name in word.frame.drivers}
+
+
 def make_table(frame, rows):
     return Table.of(frame, [Word.of(frame, levels) for levels in rows])
 
@@ -94,6 +104,7 @@ class Facts:
 
     def __init__(self, frame, rows, answers, boards=None):
         self.frame, self.rows, self.answers = frame, [{}] + list(rows), answers
+        self.known_bundles = None
         if boards is None:
             boards = plain_boards(frame)
         self.fitting = [blocks for blocks in boards if plain_answers(frame, blocks, rows) == answers]
@@ -139,10 +150,12 @@ class Facts:
         return "open" if any(joined) else "apart"
 
     def bundles(self):
-        return tuple(sorted({
-            tuple(other for other in self.frame.members if self.says(name, other) == "together")
-            for name in self.frame.members
-        }))
+        if self.known_bundles is None:
+            self.known_bundles = tuple(sorted({
+                tuple(other for other in self.frame.members if self.says(name, other) == "together")
+                for name in self.frame.members
+            }))
+        return self.known_bundles
 
     def can_be_apart(self, names):
         pairs = [(one, other) for at, one in enumerate(names) for other in names[at + 1:]]
@@ -153,12 +166,55 @@ class Facts:
             return len(self.mute) + (len(self.idle) > len(self.mute))
         return max(len([one for one in blocks if one[0] in block]) for blocks in self.fitting)
 
+    def bundle(self, name):
+        return [bundle for bundle in self.bundles() if name in bundle][0]
+
+    def idle_parts(self):
+        others = tuple(name for name in self.idle if name not in self.mute)
+        return tuple(sorted([(name,) for name in self.mute] + [others] * bool(others)))
+
+    def stakes(self, block):
+        """For each marked word the bundles that hold a maker of it; for the idle class its parts."""
+        if block == self.idle:
+            return {None: self.idle_parts()}
+        return {index: tuple(sorted({self.bundle(name) for name in names})) for index, names in self.makers(block[0]).items()}
+
+    def stake(self, block):
+        return min(len(bundles) for bundles in self.stakes(block).values())
+
+    def behind(self, rows, blocks):
+        """What is so behind further words, if this board is there."""
+        more = [plain_answer(self.frame, blocks, levels) for levels in rows]
+        return Facts(self.frame, self.rows[1:] + list(rows), self.answers + more, self.fitting)
+
     def settled(self):
         return all(self.spread(block) <= 1 for block in self.classes)
 
     def shows_cases(self, names, tree):
         """Whether a value is a tree of cases for these elements of one class."""
         return shows_tree(self.class_of(names[0]), self.makers(names[0]), [(name,) for name in names], tree)
+
+
+def grouped_boards(frame, rows):
+    """The blocks of all boards, those together that give the same answers."""
+    groups = {}
+    for blocks in plain_boards(frame):
+        key = tuple(tuple(sorted(answer.items())) for answer in plain_answers(frame, blocks, rows))
+        groups.setdefault(key, []).append(blocks)
+    return list(groups.values())
+
+
+def tells_all_boards(frame, rows):
+    """Whether for each board the verdict of its answers is settled."""
+    return all(
+        Facts(frame, rows, plain_answers(frame, boards[0], rows), boards).settled()
+        for boards in grouped_boards(frame, rows)
+    )
+
+
+def other_boards(frame, rows, blocks):
+    """The other boards with the same answers as this one."""
+    return [other for boards in grouped_boards(frame, rows) if blocks in boards for other in boards if other != blocks]
 
 
 def shows_tree(block, makers, sides, tree):

@@ -9,6 +9,15 @@ PROPERTY, CLASS_VALUE = "property", "class value"
 FUNCTIONS = {
     "names": {"is_integer": "value", "is_name": "value", "up": "number by", "least_power": "base number"},
     "boards": {"every_board": "frame"},
+    "verdictcheck": {"shows": "table answers one other thing", "shows_cases": "table answers names thing"},
+    "counting": {"count": "verdict", "boards": "verdict"},
+    "spread": {"spread": "verdict name", "stake": "verdict name", "bounds": "verdict"},
+    "spreadcheck": {"shows_spread": "verdict name thing", "shows_stake": "verdict name thing"},
+    "asking": {"at_once": "verdict", "next_word": "verdict", "hardest": "verdict"},
+    "twins": {"weights": "rows", "twins": "verdict *words", "shows_twins": "verdict words thing"},
+    "telling": {"tells_all": "table", "fewest_words": "frame", "fewest_table": "frame"},
+    "tellcheck": {"shows_telling": "table thing"},
+    "finding": {"finds": "table wires", "fewest_finding": "wires", "finding_table": "wires"},
 }
 LEG = {"__init__": "self name", "KIND": CLASS_VALUE, "drives": PROPERTY, "__eq__": None, "__str__": None, "__repr__": None}
 CLASSES = {
@@ -41,6 +50,7 @@ CLASSES = {
         "settled": PROPERTY, "board": PROPERTY, "open_pairs": "self", "parted": "self *names", "paper": "self one other",
         "cases": "self *names",
     }},
+    "spread": {"Bounds": {"__eq__": None}},
 }
 ERRORS = {
     "JoinError": None, "MissingError": None, "Settled": None, "NothingToUndo": None, "InvalidFrame": "reason", "InvalidWord": "name",

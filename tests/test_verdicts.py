@@ -11,14 +11,11 @@ from strayjoins.tables import Table
 from strayjoins.verdicts import Verdict
 from strayjoins.words import Word
 from tests.brute import Facts, joins, make_table, plain_answers, samples, shows_tree
-from tests.values import no_names
-
-LETTERS = "abcdefghijklmnopqrstuvwxyz"
-NAMES = tuple(sorted([first + second for first in "ab" for second in LETTERS]))
+from tests.values import NAMES, no_names
 
 
 def numbered_names(many):
-    return NAMES[:many]
+    return tuple(NAMES[:many])
 
 
 def joined(frame, rows, *names):
@@ -511,7 +508,7 @@ class LargeFrames(unittest.TestCase):
 
     def test_many_sides(self):
         names = numbered_names(27)
-        frame = Frame(*[Driver(name) for name in names], *[Listener("z" + letter) for letter in LETTERS[:13]])
+        frame = Frame(*[Driver(name) for name in names], *[Listener("z" + letter) for letter in "abcdefghijklm"])
         kinds = [names[:9], names[9:18], names[18:]]
         verdict = joined(frame, [low(kinds[0] + kinds[1]), low(kinds[1] + kinds[2]), low(kinds[2] + kinds[0])])
         board = verdict.parted(*frame.listeners)

@@ -7,6 +7,10 @@ from strayjoins.tables import Table
 from strayjoins.words import Word
 
 
+# As many names as a frame can have legs, ascending.
+NAMES = ["a" + letter for letter in "abcdefghijklmnopqrstuvwxyz"] + ["b" + letter for letter in "abcdefghijklmn"]
+
+
 def nested(depth):
     value = 1
     for level in range(depth):
