@@ -4,6 +4,7 @@ from strayjoins.boards import Board
 from strayjoins.errors import Settled
 from strayjoins.names import up
 from strayjoins.readings import class_makers
+from strayjoins.sides import words_made
 from strayjoins.spread import bounds, spread, stake
 from strayjoins.words import Word
 
@@ -39,8 +40,10 @@ def movers(verdict, block):
     index, parts = stake(verdict, block[0])
     if block == verdict.idle:
         return [None for part in parts if part[0] not in verdict.mute] + list(verdict.mute)
-    makers = class_makers(verdict, block)[index]
-    return [[name for name in part if name in makers][0] for part in parts]
+    made = words_made(class_makers(verdict, block))
+    firsts = [[name for name in part if made.get(name, 0) >> index & 1][0] for part in parts]
+    # Alike makers side by side: a word that parts few of them leaves few kinds, and Verdict bears no more.
+    return [name for _, name in sorted([(made[name], name) for name in firsts])]
 
 
 def hardest(verdict):

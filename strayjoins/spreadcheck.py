@@ -9,11 +9,12 @@ def shows_spread(verdict, name, thing):
     block = verdict.class_of(name)
     if block == verdict.idle:
         return are_just(spread(verdict, name), thing)
-    if not isinstance(thing, tuple) or not all([isinstance(part, tuple) and verdict.is_cover(part) for part in thing]):
+    if not isinstance(thing, tuple) or not all([isinstance(part, tuple) for part in thing]):
         return False
-    if not all([part == tuple(sorted(part)) for part in thing]):
+    names = [one for part in thing for one in part]
+    if not all([one in block for one in names]) or tuple(sorted(names)) != block:
         return False
-    return tuple(sorted([one for part in thing for one in part])) == block
+    return all([part == tuple(sorted(part)) and verdict.is_cover(part) for part in thing])
 
 
 def shows_stake(verdict, name, thing):

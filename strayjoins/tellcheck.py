@@ -20,7 +20,7 @@ def shows_telling(table, thing):
 
 def are_alike(table, one, other):
     """Whether these values are two sets of drivers that the table does not tell apart."""
-    if not is_driver_set(table.frame, one) or not is_driver_set(table.frame, other) or one == ():
+    if not is_driver_set(table.frame, one) or not is_driver_set(table.frame, other):
         return False
     if other == ():
         return len(one) == 1 and one[0] in unmoved_drivers(table)
@@ -49,13 +49,12 @@ def is_telling_tree(table, places, tree):
         return len(tree) == 2 and is_between(tree[1], 0, len(table) - 1) and is_telling(table[tree[1]], places)
     taken = list(places.values())
     if tree[0] == "end":
-        placed = len(places) == len(table.frame.drivers)
-        return len(tree) == 1 and placed and (FIRST not in taken or SECOND not in taken)
+        return len(tree) == 1 and len(places) == len(table.frame.drivers) and SECOND not in taken
     if tree[0] != "leg" or len(tree) != 5 or not is_driver(table.frame, tree[1]) or tree[1] in places:
         return False
     for place, branch in enumerate(tree[2:]):
-        if place == SECOND and FIRST not in taken and SECOND not in taken:
-            # The sides are alike as long as both are empty.
+        if place == SECOND and FIRST not in taken:
+            # Both sides are empty, and so alike: the first driver on a side is on the first one.
             if branch is not None:
                 return False
         elif not is_telling_tree(table, {**places, tree[1]: place}, branch):

@@ -83,9 +83,9 @@ def telling_tree(names, words, first, second, left):
 
 def deciding_driver(lowest, first, second, left):
     """The driver to place next: one on which a word hangs that needs few more drivers to tell the sides apart."""
-    hanging = [drivers & left for drivers in lowest if drivers & first == 0 or drivers & second == 0]
-    ranks = [(len(word_indexes(drivers)), drivers) for drivers in hanging or [left]]
-    return word_indexes(min(ranks)[1])[0]
+    # There is such a word: otherwise the sides would be alike at each word.
+    hanging = [word_indexes(drivers & left) for drivers in lowest if drivers & first == 0 or drivers & second == 0]
+    return min([(len(drivers), drivers) for drivers in hanging])[1][0]
 
 
 def fewest_words(frame):

@@ -77,13 +77,13 @@ def shows_never_apart(readings, names, tree):
 
 def is_tree(block, makers, many, sides, tree):
     """Whether any value is a tree of cases for so many sides; sides tells the side of each placed element."""
-    if not isinstance(tree, tuple) or len(tree) < 2:
+    if not isinstance(tree, tuple) or len(tree) == 0:
         return False
     if tree[0] == "word":
         return len(tree) == 2 and is_short(makers, many, sides, tree[1])
-    if tree[0] != "leg" or len(tree) != 3 or not isinstance(tree[1], str) or not isinstance(tree[2], tuple):
+    if tree[0] != "leg" or len(tree) != 3 or tree[1] not in block or tree[1] in sides:
         return False
-    if tree[1] not in block or tree[1] in sides or len(tree[2]) != many:
+    if not isinstance(tree[2], tuple) or len(tree[2]) != many:
         return False
     for side, branch in enumerate(tree[2]):
         if not is_tree(block, makers, many, {**sides, tree[1]: side}, branch):

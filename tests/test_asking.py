@@ -193,6 +193,13 @@ class Examples(unittest.TestCase):
         self.assertIn(next_word(verdict), (Word(frame, a=0), Word(frame, b=0)))
         self.assertIn(at_once(verdict), ((Word(frame, a=0),), (Word(frame, b=0),)))
 
+    def test_drivers_with_names_of_parameters(self):
+        frame = Frame(*[Driver(name) for name in ("cls", "frame", "levels", "self")])
+        verdict = rest_verdict(frame)
+        for board in (Board(frame), Board(frame, ["cls", "frame", "self"])):
+            self.assertTrue(behind(verdict, board, *at_once(verdict)).settled)
+            self.assertFalse(behind(verdict, board, next_word(verdict)).settled)
+
     def test_settled(self):
         for frame in (Frame(), Frame(Driver("a")), Frame(Listener("a"), Listener("b")), Frame(ground=True, power=True), Frame(Listener("a"), power=True)):
             verdict = rest_verdict(frame)

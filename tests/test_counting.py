@@ -129,7 +129,7 @@ class Numbers(unittest.TestCase):
         self.assertTrue(all(verdict.fits(board) for board in found))
 
     def test_the_first_ones_come_at_once(self):
-        for sizes, others in (([40], 0), ([20], 20), ([20, 20], 0), ([3, 3, 3, 3, 3], 25), ([1], 39), ([2], 38), ([9, 9, 9], 13)):
+        for sizes, others in (([40], 0), ([20], 20), ([20, 20], 0), ([3, 3, 3, 3, 3], 25), ([1], 39), ([2], 38), ([9, 9, 9], 13), ([37, 2], 1), ([2, 35, 3], 0)):
             self.look_at_first(self.joined(sizes, others))
         for many in (3, 30, 40):
             self.look_at_first(self.idle(many, power=True))

@@ -202,6 +202,11 @@ class Fewest(unittest.TestCase):
             self.assertEqual(finds(finding_table(board), board)[0], "all")
         self.assertEqual(fewest_finding(Board(Frame(power=True))), 0)
 
+    def test_drivers_with_names_of_parameters(self):
+        frame = Frame(*[Driver(name) for name in ("cls", "frame", "levels", "self")])
+        for board in (Board(frame), Board(frame, ["cls", "frame", "self"])):
+            self.assertEqual(finds(finding_table(board), board)[0], "all")
+
     def test_great_frames(self):
         random_one = random.Random(154)
         for at in range(120):

@@ -105,6 +105,14 @@ class Shown(unittest.TestCase):
         ):
             self.assertIs(shows_telling(table, ("all", tree)), False, tree)
 
+    def test_a_driver_that_is_placed_already(self):
+        table = Table(Frame(Driver("a")))
+        end = ("end",)
+        self.assertIs(shows_telling(table, ("all", ("leg", "a", end, None, end))), True)
+        again = ("leg", "a", end, None, end)
+        self.assertIs(shows_telling(table, ("all", ("leg", "a", end, None, again))), False)
+        self.assertIs(shows_telling(table, ("all", ("leg", "a", ("leg", "a", end, end, end), None, end))), False)
+
     def test_a_still_driver_beside_a_listener_or_power(self):
         for frame in (Frame(Driver("a"), Listener("z")), Frame(Driver("a"), power=True)):
             tree = ("leg", "a", ("end",), None, ("end",))

@@ -76,6 +76,11 @@ def shows(table, thing):
     return thing[0] == "twins" and len(thing) == 3 and are_sets(table, thing[1], thing[2])
 
 
+def legs_of(tree):
+    """The parts of a tree that place a driver."""
+    return [tree] + [leg for part in tree[2:] if part for leg in legs_of(part)] if tree[0] == "leg" else []
+
+
 def tables(seed, many, most=5, rows=5):
     random_one = random.Random(seed)
     for at in range(many):
@@ -130,6 +135,24 @@ class TellsAll(unittest.TestCase):
             self.look_at(table, right)
             told.append(right)
         self.assertTrue(any(told) and not all(told))
+
+    def test_words_that_drive_no_driver_alone(self):
+        # So a driver on one side has to be told from those on the other one.
+        for names in ("abc", "abcd", "abcde", "abcdefgh"):
+            for size in range(2, len(names)):
+                for top in (1, 2, 3):
+                    frame = Frame(*[Driver(name) for name in names], top=top)
+                    rows = [dict.fromkeys(low, top - 1) for low in itertools.combinations(names, size)]
+                    table = make_table(frame, rows[:59])
+                    if len(names) <= 5:
+                        self.look_at(table, tells_all_boards(frame, rows))
+                    else:
+                        self.look_at(table, tells_all(table)[0] == "all")
+
+    def test_trees_with_both_sides(self):
+        frame = Frame(*[Driver(name) for name in "abc"])
+        found = self.look_at(make_table(frame, [dict.fromkeys(low, 0) for low in ("ab", "bc", "ac")]), True)
+        self.assertTrue(any(isinstance(tree[3], tuple) for tree in legs_of(found[1])))
 
     def test_more_than_eight_drivers(self):
         for many in (9, 10, 40):
@@ -204,6 +227,10 @@ class Fewest(unittest.TestCase):
             if drivers <= 8:
                 self.assertEqual(tells_all(table)[0], "all")
             self.assertEqual(fewest_table(frame=frame), table)
+
+    def test_drivers_with_names_of_parameters(self):
+        frame = Frame(*[Driver(name) for name in ("cls", "frame", "levels", "self")])
+        self.assertEqual(tells_all(fewest_table(frame))[0], "all")
 
     def test_great_tables_tell_all(self):
         # No two drivers have a level below top in common, and at most one is never below top.

@@ -190,6 +190,8 @@ class Twins(unittest.TestCase):
                     frame = Frame(*drivers, *others, top=top, ground=True, power=power)
                     self.look_at_frame(frame, [], [], top)
                     self.look_at_frame(frame, [dict.fromkeys(NAMES[:20], top - 1)], [NAMES[:20]], top)
+                    halves = [dict.fromkeys(names, top - 1) for names in (NAMES[:15], NAMES[15:30])]
+                    self.look_at_frame(frame, halves, [NAMES[:30]], top)
                     if power:
                         self.look_at_frame(frame, [dict.fromkeys(NAMES[:9], 0)], [[*NAMES[:9], "power"]], top)
 
