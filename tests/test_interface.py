@@ -18,6 +18,8 @@ FUNCTIONS = {
     "telling": {"tells_all": "table", "fewest_words": "frame", "fewest_table": "frame"},
     "tellcheck": {"shows_telling": "table thing"},
     "finding": {"finds": "table wires", "fewest_finding": "wires", "finding_table": "wires"},
+    "findcheck": {"shows_finding": "table wires thing"},
+    "needed": {"needed": "table answers", "shows_needed": "table answers thing"},
 }
 LEG = {"__init__": "self name", "KIND": CLASS_VALUE, "drives": PROPERTY, "__eq__": None, "__str__": None, "__repr__": None}
 CLASSES = {
@@ -51,6 +53,21 @@ CLASSES = {
         "cases": "self *names",
     }},
     "spread": {"Bounds": {"__eq__": None}},
+    "chains": {
+        "Chain": {
+            "__init__": "self frame *parts", "of": "frame parts", "MOST": CLASS_VALUE, "cells": PROPERTY, "part_of": "self name",
+            "entering": "self word", "arrived": "self digits", "__len__": None, "__eq__": None,
+        },
+        "Hurt": {"__init__": "self link name", "link": PROPERTY, "__eq__": None, "__str__": None},
+    },
+    "bench": {"Bench": {
+        "__init__": "self chain board hurt=None", "held": PROPERTY, "deeds": PROPERTY, "scan": "self word", "beats": "self word",
+        "reset": "self", "trial": "self", "tried": "self deed", "asked": "self *words",
+    }},
+    "scans": {"Scans": {
+        "__init__": "self chain deeds", "link": PROPERTY, "kind": PROPERTY, "held": PROPERTY, "caps": PROPERTY, "kept": PROPERTY,
+        "table": PROPERTY, "answers": PROPERTY,
+    }},
 }
 ERRORS = {
     "JoinError": None, "MissingError": None, "Settled": None, "NothingToUndo": None, "InvalidFrame": "reason", "InvalidWord": "name",
@@ -104,7 +121,7 @@ class Interface(unittest.TestCase):
 
     def test_class_methods(self):
         for module, title, names in (("frames", "Frame", ["of"]), ("words", "Word", ["of", "rest", "lone"]),
-                                     ("boards", "Board", ["of"]), ("tables", "Table", ["of"])):
+                                     ("boards", "Board", ["of"]), ("tables", "Table", ["of"]), ("chains", "Chain", ["of"])):
             for name in names:
                 self.assertIsInstance(vars(self.find(module, title))[name], classmethod)
 

@@ -1,6 +1,8 @@
 """Values of every kind, for arguments that may be any value."""
 
+from strayjoins.bench import Bench
 from strayjoins.boards import Board
+from strayjoins.chains import Chain, Hurt
 from strayjoins.frames import Frame
 from strayjoins.legs import Driver, Leg, Listener
 from strayjoins.tables import Table
@@ -21,11 +23,13 @@ def nested(depth):
 def no_strings():
     """Values of every kind that are no strings."""
     frame = Frame(Driver("a"), Listener("b"), ground=True)
+    chain = Chain(frame, ["a", "b"])
     return [
         None, True, False, 0, 1, 2, -1, 10 ** 59, -(10 ** 59),
         (), ("a",), ("a", "b"), [], ["a"], [["a"]], {}, {"a": 0}, {"a": 1}, {1: 2}, {None: 1}, {(1, "a"): []},
         nested(10), [0] * 1999, [[], {}, ()],
-        Leg("a"), Driver("a"), Listener("a"), frame, Word(frame), Board(frame), Table(frame),
+        Leg("a"), Driver("a"), Listener("a"), frame, Word(frame), Board(frame), Table(frame), chain,
+        Hurt(0, "a"), Bench(chain, Board(frame)),
     ]
 
 
