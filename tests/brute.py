@@ -3,6 +3,7 @@
 Boards are plain here: tuples of blocks, each a tuple of names. Levels are dicts by driver.
 """
 
+import functools
 import itertools
 import random
 
@@ -12,6 +13,7 @@ from strayjoins.tables import Table
 from strayjoins.words import Word
 
 
+@functools.lru_cache(maxsize=None)
 def partitions(names):
     if not names:
         return [()]

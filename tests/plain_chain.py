@@ -13,7 +13,7 @@ class PlainBench:
     """A board behind a chain; hurt is a pair of a link and a name, or None."""
 
     def __init__(self, frame, parts, blocks, hurt=None):
-        self.frame, self.blocks, self.hurt = frame, blocks, hurt
+        self.frame, self.blocks, self.hurt, self.drivers = frame, blocks, hurt, set(frame.drivers)
         self.cells, self.firsts = [], {}
         for number, part in enumerate(parts):
             self.firsts[len(self.cells)] = number
@@ -39,14 +39,14 @@ class PlainBench:
         row = [answer[cell] if isinstance(cell, str) else cell for cell in self.cells]
         entering = [0, self.frame.top]
         for cell in self.cells[::-1]:
-            entering.append(levels.get(cell, self.frame.top) if cell in self.frame.drivers else self.frame.top)
+            entering.append(levels.get(cell, self.frame.top) if cell in self.drivers else self.frame.top)
         leaving = []
         for digit in entering:
             leaving.append(self.over(self.last_link, row[-1]))
             for at in range(len(row) - 1, 0, -1):
                 row[at] = self.over(self.firsts[at], row[at - 1]) if at in self.firsts else row[at - 1]
             row[0] = self.over(0, digit)
-        self.levels = {cell: digit for cell, digit in zip(self.cells, row) if cell in self.frame.drivers}
+        self.levels = {cell: digit for cell, digit in zip(self.cells, row) if cell in self.drivers}
         return tuple(entering), tuple(leaving)
 
     def reset(self):
@@ -97,3 +97,40 @@ def benches(seed, many, most=6, deeds=8):
         bench = make_bench(frame, parts, blocks, hurt)
         do_deeds(random_one, bench, frame, random_one.randint(0, deeds))
         yield frame, parts, blocks, hurt, bench
+
+
+def looked_at(parts, digits):
+    """What of a spoiled scan is looked at: the head and the marks."""
+    row, marks = list(digits[:-2]), []
+    for part in parts[::-1]:
+        marks.append(tuple(row[:2]))
+        row = row[2 + len(part):]
+    return tuple(digits[-2:]), marks
+
+
+def plain_agrees(frame, parts, blocks, hurt, deeds):
+    """Whether a board with a hurt link gives what is looked at of some deeds."""
+    plain = PlainBench(frame, parts, blocks, hurt)
+    for deed in deeds:
+        if deed == ("reset",):
+            plain.reset()
+            continue
+        digits = plain.scan({name: deed[1][name] for name in plain.drivers})[1]
+        if digits[-2:] != deed[2][-2:] or looked_at(parts, digits) != looked_at(parts, deed[2]):
+            return False
+        if digits[-2:] == (0, frame.top) and digits != deed[2]:
+            return False
+    return True
+
+
+def agreeing(frame, parts, deeds):
+    """All pairs of the blocks of a board and a hurt link, or None, that agree with some deeds."""
+    found = []
+    for blocks in plain_boards(frame):
+        links = [(link, block) for link in range(len(parts) + 1) for block in [*blocks, ("nothing",)]]
+        # A link is joined with the whole block of its element.
+        hurts = [(None, [None])] + [((link, block[0]), [(link, name) for name in block]) for link, block in links]
+        for first, alike in hurts:
+            if plain_agrees(frame, parts, blocks, first, deeds):
+                found += [(blocks, hurt) for hurt in alike]
+    return found

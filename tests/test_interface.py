@@ -20,6 +20,11 @@ FUNCTIONS = {
     "finding": {"finds": "table wires", "fewest_finding": "wires", "finding_table": "wires"},
     "findcheck": {"shows_finding": "table wires thing"},
     "needed": {"needed": "table answers", "shows_needed": "table answers thing"},
+    "hurt": {"deeds_for": "words", "lone_words": "frame", "agrees": "chain deeds board hurt=None"},
+    "texts": {
+        "frame_text": "frame", "word_text": "word", "board_text": "board", "session_text": "table answers", "chart": "verdict",
+    },
+    "reader": {"read_frame": "text", "read_word": "frame text", "read_board": "frame text", "read_session": "text"},
 }
 LEG = {"__init__": "self name", "KIND": CLASS_VALUE, "drives": PROPERTY, "__eq__": None, "__str__": None, "__repr__": None}
 CLASSES = {
@@ -68,6 +73,15 @@ CLASSES = {
         "__init__": "self chain deeds", "link": PROPERTY, "kind": PROPERTY, "held": PROPERTY, "caps": PROPERTY, "kept": PROPERTY,
         "table": PROPERTY, "answers": PROPERTY,
     }},
+    "hurt": {"HurtVerdict": {
+        "__init__": "self chain deeds", "verdict": PROPERTY, "with_link": "self name", "says": "self one other", "settled": PROPERTY,
+    }},
+    "tester": {"Tester": {
+        "__init__": "self frame wires=None", "tell": "self answer word=None", "table": PROPERTY, "verdict": PROPERTY, "answers": PROPERTY,
+        "wires": PROPERTY, "set_wires": "self wires", "__len__": None, "wanted": "self", "findings": "self", "undo": "self count=1",
+        "trial": "self", "tried": "self deed",
+    }},
+    "desk": {"Desk": {"__init__": "self", "say": "self line", "__call__": "self line", "tester": "self"}},
 }
 ERRORS = {
     "JoinError": None, "MissingError": None, "Settled": None, "NothingToUndo": None, "InvalidFrame": "reason", "InvalidWord": "name",
@@ -124,6 +138,16 @@ class Interface(unittest.TestCase):
                                      ("boards", "Board", ["of"]), ("tables", "Table", ["of"]), ("chains", "Chain", ["of"])):
             for name in names:
                 self.assertIsInstance(vars(self.find(module, title))[name], classmethod)
+
+    def test_base_classes(self):
+        for base, names in (("Readings", ["verdicts.Verdict"]), ("Scans", ["hurt.HurtVerdict"]), ("Leg", ["legs.Driver", "legs.Listener"])):
+            module = {"Readings": "readings", "Scans": "scans", "Leg": "legs"}[base]
+            for name in names:
+                self.assertTrue(issubclass(self.find(*name.split(".")), self.find(module, base)))
+
+    def test_wires_are_passed_by_name(self):
+        kinds = inspect.signature(self.find("tester", "Tester").__init__).parameters
+        self.assertEqual(kinds["wires"].kind, kinds["wires"].KEYWORD_ONLY)
 
 
 if __name__ == "__main__":

@@ -199,6 +199,42 @@ class Language(unittest.TestCase):
         for name in generators:
             self.assertEqual(names.count(name), 1, name)
 
+    def test_generators_are_iterated_at_once(self):
+        generators = {node.name for _, node in nodes(ast.FunctionDef)
+                      if [one for one in ast.walk(node) if isinstance(one, (ast.Yield, ast.YieldFrom))]}
+        walked = set()
+        for _, node in nodes(ast.For, ast.comprehension):
+            walked.add(node.iter)
+        for _, node in nodes(ast.YieldFrom):
+            walked.add(node.value)
+        for place, node in nodes(ast.Call):
+            name = node.func.id if isinstance(node.func, ast.Name) else getattr(node.func, "attr", None)
+            if name in generators:
+                self.assertIn(node, walked, place)
+        for place, node in nodes(ast.Name):
+            if node.id in generators and not isinstance(node.ctx, ast.Load):
+                self.fail(place)
+
+    def test_attributes(self):
+        methods = [name for own in methods_by_class().values() for name in own]
+        properties = [name for own in methods_by_class().values() for name, row in own.items() if row.decorator_list]
+        values = [ast.unparse(row.targets[0]) for _, node in nodes(ast.ClassDef) for row in node.body if isinstance(row, ast.Assign)]
+        stored = {node.attr for _, node in nodes(ast.Attribute) if isinstance(node.ctx, ast.Store)}
+        self.assertEqual((stored - {"wires"}) & set(properties), set())
+        for place, node in nodes(ast.Attribute):
+            if isinstance(node.ctx, ast.Load) and node.attr != "setter":
+                self.assertIn(node.attr, stored | set(methods) | set(values) | METHODS, place)
+            self.assertNotRegex(node.attr, "^(_wall|_pe_|_dcw_|_enum_|_cm_|_twin_re_|_lay_|_law_|_stub_|_sre)", place)
+
+    def test_blocks_that_are_left(self):
+        for name, methods in methods_by_class().items():
+            if "__exit__" in methods:
+                told = [one.id for one in ast.walk(methods["__exit__"]) if isinstance(one, ast.Name)]
+                self.assertFalse({"kind", "value", "trace"} & set(told), name)
+                for row in methods["__exit__"].body:
+                    self.assertIsInstance(row, ast.Assign, name)
+                    self.assertRegex(ast.unparse(row), r"^\w+ = self\.\w+$|^\w+\.\w+ = self\.\w+$", name)
+
     def test_properties_have_names_of_their_own(self):
         plain, properties = set(), set()
         for methods in methods_by_class().values():

@@ -3,9 +3,12 @@
 from strayjoins.bench import Bench
 from strayjoins.boards import Board
 from strayjoins.chains import Chain, Hurt
+from strayjoins.desk import Desk
 from strayjoins.frames import Frame
+from strayjoins.hurt import HurtVerdict
 from strayjoins.legs import Driver, Leg, Listener
 from strayjoins.tables import Table
+from strayjoins.tester import Tester
 from strayjoins.words import Word
 
 
@@ -29,7 +32,7 @@ def no_strings():
         (), ("a",), ("a", "b"), [], ["a"], [["a"]], {}, {"a": 0}, {"a": 1}, {1: 2}, {None: 1}, {(1, "a"): []},
         nested(10), [0] * 1999, [[], {}, ()],
         Leg("a"), Driver("a"), Listener("a"), frame, Word(frame), Board(frame), Table(frame), chain,
-        Hurt(0, "a"), Bench(chain, Board(frame)),
+        Hurt(0, "a"), Bench(chain, Board(frame)), HurtVerdict(chain, [("reset",)]), Tester(frame), Desk(),
     ]
 
 
